@@ -1,0 +1,10 @@
+"""The limits of the document."""
+
+MOST_COLUMNS = 8
+MOST_SUMS = 10
+MOST_DATA = 24
+MOST_DIAL = 10 ** 9
+MOST_BITS = 60
+MOST_VALUE = 10 ** 30
+MOST_SUM = 10 ** 32
+MOST_PLACES = 14

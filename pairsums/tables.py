@@ -1,0 +1,135 @@
+"""Tables: columns of sums and data in one kind."""
+
+from pairsums.basics import is_integer
+from pairsums.errors import InvalidCells, InvalidColumns, InvalidKind, InvalidText, InvalidValues, UnknownName
+from pairsums.kinds import is_kind, is_value, put_together
+from pairsums.layout import cells_by_column, check_columns, columns_of_lines, kind_of_line, lines_of, numbers_by_sum
+from pairsums.limits import MOST_SUM, MOST_VALUE
+
+
+class Table:
+    """A table; it never changes."""
+
+    def __init__(self, kind, columns):
+        if not is_kind(kind):
+            raise InvalidKind(kind)
+        check_columns(columns)
+        self._kind = kind
+        self._columns = columns
+        self._names = tuple([name for name, sums, data in columns])
+        self._sums = tuple([word for name, sums, data in columns for word in sums])
+        self._data = tuple([pair for name, sums, data in columns for pair in data])
+        self._cells_of = cells_by_column(columns)
+        self._cells = tuple([cell for name in self._names for cell in self._cells_of[name]])
+        self._column_of = {cell: name for name in self._names for cell in self._cells_of[name]}
+        self._data_in = numbers_by_sum(self._sums, self._data)
+        self._lines = lines_of(kind, columns)
+
+    @staticmethod
+    def read(text):
+        """The table with this text."""
+        if not isinstance(text, str):
+            raise InvalidText(text)
+        lines = text.split("\n")
+        try:
+            table = Table(kind_of_line(lines[0]), columns_of_lines(lines[1:]))
+        except (InvalidKind, InvalidColumns):
+            raise InvalidText(text) from None
+        # The lines are read generously: a sum behind data and a needless zero are found here.
+        if str(table) != text:
+            raise InvalidText(text)
+        return table
+
+    @property
+    def kind(self):
+        return self._kind
+
+    @property
+    def columns(self):
+        return self._columns
+
+    @property
+    def names(self):
+        return self._names
+
+    @property
+    def sums(self):
+        return self._sums
+
+    @property
+    def data(self):
+        return self._data
+
+    @property
+    def cells(self):
+        return self._cells
+
+    def cells_of(self, name):
+        """The cells of a column."""
+        if not isinstance(name, str) or name not in self._cells_of:
+            raise UnknownName(name)
+        return self._cells_of[name]
+
+    def column_of(self, cell):
+        """The name of the column of a cell."""
+        if not is_cell(self, cell):
+            raise UnknownName(cell)
+        return self._column_of[cell]
+
+    def full(self, values):
+        """The right cell values with these data values."""
+        check_values(self, values)
+        return tuple([self._told_by(cell, values) for cell in self._cells])
+
+    def is_right(self, cells):
+        """Whether each sum has the value that the data give it."""
+        check_cells(self, cells)
+        values = [value for (what, _), value in zip(self._cells, cells) if what == "datum"]
+        return all([value == self._told_by(cell, values) for cell, value in zip(self._cells, cells)])
+
+    def _told_by(self, cell, values):
+        """The value that data values give a cell."""
+        what, which = cell
+        if what == "datum":
+            return values[which]
+        return put_together(self._kind, [values[number] for number in self._data_in[which]])
+
+    def __eq__(self, other):
+        return isinstance(other, Table) and self._lines == other._lines
+
+    def __str__(self):
+        return "\n".join(self._lines)
+
+    def __repr__(self):
+        return f"Table of {len(self._names)} columns, {len(self._sums)} sums and {len(self._data)} data"
+
+
+def is_cell(table, cell):
+    """Whether this, which may be anything, is a cell of the table."""
+    if not isinstance(cell, tuple) or len(cell) != 2:
+        return False
+    what, which = cell
+    if not isinstance(what, str):
+        return False
+    if what == "sum":
+        return isinstance(which, str) and which in table.sums
+    return what == "datum" and is_integer(which) and 0 <= which < len(table.data)
+
+
+def check_values(table, values):
+    """Raises InvalidValues if these, which may be anything, are no data values of the table."""
+    if not isinstance(values, tuple) or len(values) != len(table.data):
+        raise InvalidValues(None)
+    for index, value in enumerate(values):
+        if not is_value(table.kind, value, MOST_VALUE):
+            raise InvalidValues(index)
+
+
+def check_cells(table, cells):
+    """Raises InvalidCells if these, which may be anything, are no cell values of the table."""
+    if not isinstance(cells, tuple) or len(cells) != len(table.cells):
+        raise InvalidCells(None)
+    for index, (cell, value) in enumerate(zip(table.cells, cells)):
+        bound = MOST_VALUE if cell[0] == "datum" else MOST_SUM
+        if not is_value(table.kind, value, bound):
+            raise InvalidCells(index)

@@ -20,3 +20,13 @@ def is_name(value):
 
 def has_repeats(words):
     return len(set(words)) < len(words)
+
+
+def choices(things, number):
+    """All tuples of so many of these things, in their order."""
+    if number == 0:
+        return [()]
+    found = []
+    for at, thing in enumerate(things):
+        found.extend([(thing, *rest) for rest in choices(things[at + 1:], number - 1)])
+    return found

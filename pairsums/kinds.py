@@ -1,10 +1,13 @@
-"""The kinds of tables: bits, plain sums and dials, and the values that go with each."""
+"""The kinds of tables: bits, plain sums and dials, and the values and factors that go with each."""
 
 from pairsums.basics import is_between
 from pairsums.limits import MOST_BITS, MOST_DIAL
 
 BITS = "bits"
 PLAIN = "plain"
+EVEN = "even"
+ODD = "odd"
+WORDS = ("bits", "even", "odd", "plain")
 LEAST_DIAL = 3
 
 
@@ -32,3 +35,17 @@ def put_together(kind, numbers):
         return mixed
     total = sum(numbers)
     return total if kind == PLAIN else total % kind
+
+
+def word_of(kind):
+    """The word for all kinds with which the same cells come back as with this one."""
+    if isinstance(kind, str):
+        return kind
+    return EVEN if kind % 2 == 0 else ODD
+
+
+def reduced(kind, number):
+    """The factor or the change that does the same as this number, within the bounds that the kind has for it."""
+    if kind == PLAIN:
+        return number
+    return number % 2 if kind == BITS else number % kind

@@ -101,6 +101,12 @@ class Files(unittest.TestCase):
                 if module != "__future__":
                     self.assertIn(word, LIBRARY.get(module) or defined[module], name)
 
+    def test_no_import_without_use(self):
+        for name, _, tree in trees():
+            used = {node.id for node in ast.walk(tree) if isinstance(node, ast.Name)}
+            for _, word in imported_by(tree):
+                self.assertIn(word, used, name)
+
     def test_l16_no_circles(self):
         needs = {name[:-3]: {module.split(".")[-1] for module, _ in imported_by(tree)} for name, _, tree in trees()}
         while needs:

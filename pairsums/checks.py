@@ -1,0 +1,38 @@
+"""The errors of the arguments that occur in several modules."""
+
+from pairsums.errors import InvalidLost, InvalidNames, NotATable, NotLost
+from pairsums.tables import Table, is_cell
+
+
+def check_table(table):
+    if not isinstance(table, Table):
+        raise NotATable(table)
+
+
+def check_lost(table, lost):
+    """Raises InvalidLost if these, which may be anything, are no lost cells of the table."""
+    if not isinstance(lost, tuple):
+        raise InvalidLost(None)
+    before = {}
+    for index, cell in enumerate(lost):
+        if not is_cell(table, cell) or cell in before:
+            raise InvalidLost(index)
+        before[cell] = True
+
+
+def check_one_lost(table, lost, cell):
+    """Raises NotLost if this, which may be anything, is none of the lost cells."""
+    # What is no cell may equal one: ("datum", True) equals ("datum", 1).
+    if not is_cell(table, cell) or cell not in lost:
+        raise NotLost(cell)
+
+
+def check_names(table, names):
+    """Raises InvalidNames if these, which may be anything, are no different columns of the table."""
+    if not isinstance(names, tuple):
+        raise InvalidNames(None)
+    before = {}
+    for index, name in enumerate(names):
+        if not isinstance(name, str) or name not in table.names or name in before:
+            raise InvalidNames(index)
+        before[name] = True

@@ -9,11 +9,11 @@ def check_table(table):
         raise NotATable(table)
 
 
-def check_lost(table, lost):
-    """Raises InvalidLost if these, which may be anything, are no lost cells of the table."""
+def check_lost(table, lost, gone=()):
+    """Raises InvalidLost if these, which may be anything, are no lost cells of the table, or some are gone before."""
     if not isinstance(lost, tuple):
         raise InvalidLost(None)
-    before = {}
+    before = {cell: True for cell in gone}
     for index, cell in enumerate(lost):
         if not is_cell(table, cell) or cell in before:
             raise InvalidLost(index)

@@ -72,11 +72,6 @@ def cells_by_column(columns):
     return found
 
 
-def numbers_by_sum(sums, data):
-    """The numbers of the data in each sum, told by its name."""
-    return {name: tuple([number for number, pair in enumerate(data) if name in pair]) for name in sums}
-
-
 def lines_of(kind, columns):
     """The lines of the text of a table."""
     lines = [f"kind {kind}"]

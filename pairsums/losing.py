@@ -6,7 +6,7 @@ from pairsums.checks import check_lost, check_one_lost, check_table
 from pairsums.errors import InvalidNumber, NotRight
 from pairsums.kinds import WORDS
 from pairsums.nets import Gap, Net, all_parts
-from pairsums.recipes import can_be_right, do_all_come_back, does_come_back, recipe_for, told_by, value_back
+from pairsums.recipes import can_become_right, do_all_come_back, does_come_back, recipe_for, told_by, value_back
 from pairsums.tables import check_cells
 
 MOST_COUNTED = 3
@@ -66,7 +66,7 @@ def restored(table, lost, cells):
     check_lost(table, lost)
     check_cells(table, cells)
     values = {cell: value for cell, value in zip(table.cells, cells)}
-    if not all([can_be_right(table, lost, part, values) for part in all_parts(Net(table, lost))]):
+    if not can_become_right(table, lost, values):
         raise NotRight()
     return tuple([value_back(table, lost, cell, values) if cell in lost else values[cell] for cell in table.cells])
 

@@ -1,7 +1,7 @@
 """Which lost cells come back, and what the cells that are left tell about them."""
 
 from pairsums.kinds import BITS, ODD, PLAIN, put_together, reduced, word_of
-from pairsums.nets import Gap, part_at
+from pairsums.nets import Gap, Net, all_parts, part_at
 
 
 def told_by(word, gap):
@@ -82,3 +82,8 @@ def can_be_right(table, lost, part, values):
         return rest == 0
     # Each line counts twice or not at all here; on an odd dial all numbers are twice another one.
     return word_of(table.kind) == ODD or rest % 2 == 0
+
+
+def can_become_right(table, lost, values):
+    """Whether there are right cell values that are the same as these in all cells that are left."""
+    return all([can_be_right(table, lost, part, values) for part in all_parts(Net(table, lost))])

@@ -3,7 +3,7 @@
 from pairsums.basics import is_integer
 from pairsums.errors import InvalidCells, InvalidColumns, InvalidKind, InvalidText, InvalidValues, UnknownName
 from pairsums.kinds import is_kind, is_value, put_together
-from pairsums.layout import cells_by_column, check_columns, columns_of_lines, kind_of_line, lines_of, numbers_by_sum
+from pairsums.layout import cells_by_column, check_columns, columns_of_lines, kind_of_line, lines_of
 from pairsums.limits import MOST_SUM, MOST_VALUE
 
 
@@ -22,7 +22,6 @@ class Table:
         self._cells_of = cells_by_column(columns)
         self._cells = tuple([cell for name in self._names for cell in self._cells_of[name]])
         self._column_of = {cell: name for name in self._names for cell in self._cells_of[name]}
-        self._data_in = numbers_by_sum(self._sums, self._data)
         self._lines = lines_of(kind, columns)
 
     @staticmethod
@@ -79,20 +78,12 @@ class Table:
     def full(self, values):
         """The right cell values with these data values."""
         check_values(self, values)
-        return tuple([self._told_by(cell, values) for cell in self._cells])
+        return cells_told(self, values)
 
     def is_right(self, cells):
         """Whether each sum has the value that the data give it."""
         check_cells(self, cells)
-        values = [value for (what, _), value in zip(self._cells, cells) if what == "datum"]
-        return all([value == self._told_by(cell, values) for cell, value in zip(self._cells, cells)])
-
-    def _told_by(self, cell, values):
-        """The value that data values give a cell."""
-        what, which = cell
-        if what == "datum":
-            return values[which]
-        return put_together(self._kind, [values[number] for number in self._data_in[which]])
+        return cells == cells_told(self, data_among(self, cells))
 
     def __eq__(self, other):
         return isinstance(other, Table) and self._lines == other._lines
@@ -114,6 +105,18 @@ def is_cell(table, cell):
     if what == "sum":
         return isinstance(which, str) and which in table.sums
     return what == "datum" and is_integer(which) and 0 <= which < len(table.data)
+
+
+def data_among(table, cells):
+    """The values that the data have among cell values."""
+    return tuple([value for (what, _), value in zip(table.cells, cells) if what == "datum"])
+
+
+def cells_told(table, values):
+    """The right cell values with these data values, which may be beyond the bounds here."""
+    told = {name: put_together(table.kind, [value for pair, value in zip(table.data, values) if name in pair])
+            for name in table.sums}
+    return tuple([told[which] if what == "sum" else values[which] for what, which in table.cells])
 
 
 def check_values(table, values):

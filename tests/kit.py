@@ -102,7 +102,7 @@ def some_losses(table, many, seed=1):
 class Case(unittest.TestCase):
     """A test that looks at errors with all that they tell."""
 
-    def assert_told(self, error, value, call, *passed, **named):
+    def assert_told(self, error, value, call, /, *passed, **named):
         """That the call raises this error with this value, which is the very one that was passed, or an index."""
         with self.subTest(error=error.__name__, value=value, call=call.__name__, passed=passed, named=named):
             with self.assertRaises(error) as held:

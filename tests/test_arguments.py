@@ -1,10 +1,11 @@
-"""The errors of `table`, `lost`, `cell`, `cells` and `names`, in each function: points [4], [5] and the interface."""
+"""The errors of `table`, `lost`, `cells` and the like, in each function: points [4], [5] and the interface."""
 
 import inspect
 import itertools
 
-from pairsums import columns, losing
-from pairsums.errors import InvalidCells, InvalidLost, InvalidNames, InvalidNumber, NotATable, NotLost
+from pairsums import columns, desks, losing, reading, wrong
+from pairsums.errors import (InvalidCells, InvalidLost, InvalidNames, InvalidNumber, InvalidValues, NotATable, NotLost,
+                             UnknownName)
 from pairsums.tables import Table
 from tests.kit import Anything, Case, formed, not_cells, not_integers, not_names, not_tables, not_tuples, side
 
@@ -23,12 +24,23 @@ SIGNATURES = {
     columns.least_losses: ("table",),
     columns.joined: ("table", "column"),
     columns.finds_wrong: ("table", "names"),
+    reading.fewest_reads: ("table", "name"),
+    reading.reading: ("table", "name"),
+    wrong.lacks: ("table", "cells"),
+    wrong.suspects: ("table", "cells"),
+    wrong.righted: ("table", "cells", "name"),
+    desks.Desk: ("table", "values"),
 }
 P, Q, FIRST, SECOND = ("sum", "p"), ("sum", "q"), ("datum", 0), ("datum", 1)
 
 # Valid arguments for the table `side`, whose cells are P, FIRST, Q, SECOND.
 RIGHT = {"lost": (FIRST, P), "cell": P, "cells": (3, 5, 3, -2), "names": ("far", "left"), "number": 2,
-         "column": ("more", (), ())}
+         "column": ("more", (), ()), "name": "far", "values": (5, -2)}
+
+
+def shown(value):
+    """What can be compared of a result: a desk equals itself alone."""
+    return value.cells if isinstance(value, desks.Desk) else value
 
 
 def calls_with(parameter):
@@ -53,19 +65,19 @@ class Arguments(Case):
         for call, parameters in SIGNATURES.items():
             self.assertEqual(tuple(inspect.signature(call).parameters), parameters)
             arguments = {"table": side(), **RIGHT}
-            self.assertEqual(call(*[arguments[name] for name in parameters]),
-                             call(**{name: arguments[name] for name in parameters[::-1]}))
+            self.assertEqual(shown(call(*[arguments[name] for name in parameters])),
+                             shown(call(**{name: arguments[name] for name in parameters[::-1]})))
 
     def test_defined_in_their_files(self):
-        for module, many in [(losing, 9), (columns, 5)]:
+        for module, many in [(losing, 9), (columns, 5), (reading, 2), (wrong, 3), (desks, 1)]:
             own = [call for call in SIGNATURES if call.__module__ == module.__name__]
             self.assertEqual(len(own), many)
             self.assertTrue(all(getattr(module, call.__name__) is call for call in own))
 
     def test_not_a_table(self):
-        wrong = {"lost": None, "cell": None, "cells": None, "names": None, "number": None, "column": None}
+        others = {parameter: None for parameter in RIGHT}
         for table in not_tables():
-            self.assert_error(NotATable, table, "table", table, wrong)
+            self.assert_error(NotATable, table, "table", table, others)
 
     def test_lost_that_are_no_tuple(self):
         for lost in not_tuples():
@@ -111,18 +123,36 @@ class Arguments(Case):
     def test_cells(self):
         for value in [*not_integers(), 10 ** 32 + 1, -10 ** 32 - 1, 10 ** 79]:
             for at in range(4):
-                self.assert_error(InvalidCells, at, "cells", (0,) * at + (value,) + (0,) * (3 - at))
+                self.assert_error(InvalidCells, at, "cells", (0,) * at + (value,) + (0,) * (3 - at), {"name": None})
                 self.assert_error(InvalidCells, at, "cells", (0,) * at + (value,) * (4 - at))
         for value in [10 ** 30 + 1, -10 ** 30 - 1, 10 ** 32]:
             self.assert_error(InvalidCells, 1, "cells", (value, value, value, value))
             self.assert_error(InvalidCells, 3, "cells", (value, 0, value, value))
         for cells in [*not_tuples(), (), (0,), (0,) * 3, (0,) * 5, (None,) * 5, [0, 0, 0, 0], (None,) * 3]:
-            self.assert_error(InvalidCells, None, "cells", cells)
+            self.assert_error(InvalidCells, None, "cells", cells, {"name": None})
         for kind, beyond in [("bits", (-1, 2 ** 60)), (3, (-1, 3)), (10 ** 9, (-1, 10 ** 9))]:
             for value in beyond:
                 for at in range(4):
                     passed = (0,) * at + (value,) + (None,) * (3 - at)
                     self.assert_told(InvalidCells, at, losing.restored, side(kind), (), passed)
+
+    def test_values(self):
+        for value in [*not_integers(), 10 ** 30 + 1, -10 ** 30 - 1, 10 ** 32, 10 ** 79]:
+            self.assert_error(InvalidValues, 0, "values", (value, 0))
+            self.assert_error(InvalidValues, 1, "values", (0, value))
+            self.assert_error(InvalidValues, 0, "values", (value, value))
+        for values in [*not_tuples(), (), (0,), (0, 0, 0), (None,) * 3, [0, 0]]:
+            self.assert_error(InvalidValues, None, "values", values)
+        for kind, beyond in [("bits", (-1, 2 ** 60)), (3, (-1, 3)), (10 ** 9, (-1, 10 ** 9))]:
+            for value in beyond:
+                for call in calls_with("values"):
+                    self.assert_told(InvalidValues, 1, call, side(kind), (0, value))
+                    self.assert_told(InvalidValues, 0, call, side(kind), (value, None))
+
+    def test_name(self):
+        for name in [*not_names(), "p", "q", "lef", "leftt", "sum", "rights", ("left",), P, ["left"]]:
+            self.assert_error(UnknownName, name, "name", name)
+            self.assert_told(UnknownName, name, wrong.righted, side(), (3, 5, 4, -2), name)
 
     def test_names_that_are_no_tuple(self):
         for names in not_tuples():

@@ -5,6 +5,8 @@ import importlib
 import inspect
 import unittest
 
+from pairsums.errors import NoAnswer, WrongName, WrongValue
+
 # The lists that the document shows, row by row.
 EXAMPLES = r"""
 >>> from pairsums.tables import Table
@@ -31,28 +33,77 @@ EXAMPLES = r"""
 >>> from pairsums.columns import columns_back, finds_wrong, joined, least_losses, strength
 >>> [columns_back(five, ("re", "ra")), strength(five), len(least_losses(five)), least_losses(side), strength(side), finds_wrong(five, ()), finds_wrong(five, ("ra",)), strength(joined(five, ("more", (), (("a", "b"),)))), strength(joined(five, ("more", ("z",), ())))]
 [True, 2, 10, (('left', 'right'), ('left', 'far')), 1, True, False, 1, 2]
+>>> from pairsums.reading import fewest_reads, reading
+>>> [fewest_reads(five, "ra"), len(reading(five, "ra")), fewest_reads(side, "right"), reading(side, "right"), fewest_reads(side, "far")]
+[5, 2, 2, ((('sum', 'q'), 'q'),), 2]
+>>> from pairsums.wrong import lacks, righted, suspects
+>>> [lacks(five, (3, 0, 1, 2, 5, 3, 7, 4, 5, 6)), lacks(side, (3, 5, 4, -2)), lacks(side, (3, 5, 3, -2))]
+[(('c', 1), ('d', 1)), (('q', -1),), ()]
+>>> [suspects(five, (3, 0, 1, 2, 5, 3, 7, 4, 5, 6)), righted(five, (3, 0, 1, 2, 5, 3, 7, 4, 5, 6), "ra"), suspects(side, (3, 5, 3, -2)), suspects(side, (3, 5, 4, -2))]
+[('ra',), (3, 1, 1, 2, 5, 3, 7, 4, 5, 6), ('left', 'right', 'far'), ('left', 'right')]
+>>> from pairsums.desks import Desk
+>>> desk = Desk(five, (1, 2, 3, 4, 5, 6))
+>>> [desk.put(3, 7), desk.lose_column("ra"), desk.lose((("datum", 2),)), desk.lost, desk.hope(), desk.mend(), desk.cells, desk.changes]
+[(('sum', 'a'), ('sum', 'b'), ('datum', 3)), None, None, (('sum', 'a'), ('datum', 0), ('datum', 2)), (('sum', 'a'), ('datum', 0), ('datum', 2)), (('sum', 'a'), ('datum', 0), ('datum', 2)), (0, 1, 2, 2, 5, 3, 7, 7, 5, 6), 4]
+>>> desk.give(("datum", 0), 1)
+raises NotLost(given=('datum', 0))
 """
 
 INTERFACE = {
+    "tables": ("Table",),
     "rounds": ("prime_rounds", "are_perfect", "short_ring", "table_of"),
     "losing": ("comes_back", "back", "kinds_back", "parts", "recipe", "change", "restored", "fewest_gone",
                "count_back"),
     "columns": ("columns_back", "strength", "least_losses", "joined", "finds_wrong"),
+    "reading": ("fewest_reads", "reading"),
+    "wrong": ("lacks", "suspects", "righted"),
+    "desks": ("Desk",),
 }
+
+METHODS = {
+    "Table": ("cells_of", "column_of", "full", "is_right", "read", "__eq__", "__str__", "__repr__"),
+    "Desk": ("put", "lose", "lose_column", "mend", "give", "hope", "undo", "trial", "tried"),
+}
+PROPERTIES = {
+    "Table": ("kind", "columns", "names", "sums", "data", "cells"),
+    "Desk": ("table", "lost", "cells", "changes"),
+}
+
+
+def error_told(source, known):
+    """The error that an example raises, in the way in which the document shows it."""
+    try:
+        eval(source, known)
+    except (WrongValue, WrongName, NoAnswer) as error:
+        told = ", ".join(f"{name}={value!r}" for name, value in vars(error).items())
+        return f"{type(error).__name__}({told})"
+    return None
 
 
 class Examples(unittest.TestCase):
     def test_examples(self):
         known = {}
         for example in doctest.DocTestParser().get_examples(EXAMPLES):
-            if example.want:
+            if example.want.startswith("raises "):
+                self.assertEqual(error_told(example.source, known), example.want[len("raises "):].strip())
+            elif example.want:
                 self.assertEqual(repr(eval(example.source, known)) + "\n", example.want, example.source)
             else:
                 exec(example.source, known)
 
-    def test_each_function_stands_in_its_file(self):
+    def test_all_stand_in_their_files(self):
         for file, names in INTERFACE.items():
             module = importlib.import_module("pairsums." + file)
             for name in names:
-                self.assertTrue(inspect.isfunction(getattr(module, name)))
-                self.assertEqual(getattr(module, name).__module__, module.__name__)
+                value = getattr(module, name)
+                self.assertTrue(inspect.isfunction(value) or inspect.isclass(value))
+                self.assertEqual(value.__module__, module.__name__)
+
+    def test_methods_stand_in_their_classes(self):
+        for file, names in INTERFACE.items():
+            for name in set(names) & set(METHODS):
+                own = vars(getattr(importlib.import_module("pairsums." + file), name))
+                for method in METHODS[name]:
+                    self.assertTrue(inspect.isfunction(own[method]) or isinstance(own[method], staticmethod))
+                for each in PROPERTIES[name]:
+                    self.assertIsInstance(own[each], property)

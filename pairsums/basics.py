@@ -12,6 +12,11 @@ def is_between(value, low, high):
     return is_integer(value) and low <= value <= high
 
 
+def is_count(value):
+    """Whether this is an integer from 0 on."""
+    return is_integer(value) and value >= 0
+
+
 def is_name(value):
     if not isinstance(value, str) or not 1 <= len(value) <= MOST_LETTERS:
         return False

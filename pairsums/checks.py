@@ -33,6 +33,29 @@ def check_names(table, names):
         raise InvalidNames(None)
     before = {}
     for index, name in enumerate(names):
-        if not isinstance(name, str) or name not in table.names or name in before:
+        if not is_column(table, name) or name in before:
             raise InvalidNames(index)
         before[name] = True
+
+
+def is_column(table, name):
+    """Whether this, which may be anything, is the name of a column of the table."""
+    return isinstance(name, str) and name in table.names
+
+
+def are_columns(table, names):
+    """Whether these, which may be anything, are different columns of the table."""
+    try:
+        check_names(table, names)
+    except InvalidNames:
+        return False
+    return True
+
+
+def are_lost(table, lost):
+    """Whether these, which may be anything, are lost cells of the table."""
+    try:
+        check_lost(table, lost)
+    except InvalidLost:
+        return False
+    return True

@@ -12,6 +12,14 @@ def are_back(table, names):
     return do_all_come_back(table, tuple([cell for name in names for cell in table.cells_of(name)]))
 
 
+def first_loss(table, number):
+    """The first so many columns (all of them, if there are not so many) that do not come back, None if all such do."""
+    for names in choices(table.names, min(number, len(table.names))):
+        if not are_back(table, names):
+            return names
+    return None
+
+
 def columns_back(table, names):
     """Whether these columns come back together."""
     check_table(table)

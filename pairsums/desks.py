@@ -23,6 +23,9 @@ class Desk:
         self._table = table
         self.moment = Moment((values, ()), None)
 
+    def __eq__(self, other):
+        return self is other
+
     @property
     def table(self):
         return self._table

@@ -6,7 +6,7 @@ from pairsums.checks import check_table
 def fewest_reads(table, name):
     """The least number of reads with which the column is read back, None if it can't be done."""
     steps = reading(table, name)
-    return None if steps is None else len(reads_of(table, steps))
+    return None if steps is None else count_reads(table, steps)
 
 
 def reading(table, name):
@@ -16,7 +16,7 @@ def reading(table, name):
     ways = [way for way in ways if way is not None]
     if not ways:
         return None
-    return min(ways, key=lambda way: len(reads_of(table, way)))
+    return min(ways, key=lambda way: count_reads(table, way))
 
 
 def ways_to_read(table, lost):
@@ -52,12 +52,7 @@ def in_order(table, way):
     return tuple(done)
 
 
-def reads_of(table, steps):
-    """The cells that are left and are needed by some step."""
+def count_reads(table, steps):
+    """How many cells that are left are needed by some step."""
     lost = [cell for cell, _ in steps]
-    found = {}
-    for step in steps:
-        for cell in needs_of(table, step):
-            if cell not in lost:
-                found[cell] = True
-    return tuple(found)
+    return len(set([cell for step in steps for cell in needs_of(table, step) if cell not in lost]))

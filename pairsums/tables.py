@@ -27,15 +27,8 @@ class Table:
     @staticmethod
     def read(text):
         """The table with this text."""
-        if not isinstance(text, str):
-            raise InvalidText(text)
-        lines = text.split("\n")
-        try:
-            table = Table(kind_of_line(lines[0]), columns_of_lines(lines[1:]))
-        except (InvalidKind, InvalidColumns):
-            raise InvalidText(text) from None
-        # The lines are read generously: a sum behind data and a needless zero are found here.
-        if str(table) != text:
+        table = table_with(text)
+        if table is None:
             raise InvalidText(text)
         return table
 
@@ -93,6 +86,19 @@ class Table:
 
     def __repr__(self):
         return f"Table of {len(self._names)} columns, {len(self._sums)} sums and {len(self._data)} data"
+
+
+def table_with(text):
+    """The table with this text, which may be anything; None if there is none."""
+    if not isinstance(text, str):
+        return None
+    lines = text.split("\n")
+    try:
+        table = Table(kind_of_line(lines[0]), columns_of_lines(lines[1:]))
+    except (InvalidKind, InvalidColumns):
+        return None
+    # The lines are read generously: a sum behind data and a needless zero are found here.
+    return table if str(table) == text else None
 
 
 def is_cell(table, cell):

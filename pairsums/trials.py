@@ -20,6 +20,9 @@ class Trial:
         self._owner = owner
         self._entered = None
 
+    def __eq__(self, other):
+        return self is other
+
     def __enter__(self):
         # One trial may be entered within itself; the moment to go back to last is that of the first time.
         self._entered = Moment(self._owner.moment, self._entered)

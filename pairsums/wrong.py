@@ -61,10 +61,9 @@ def ways_to_right(kind, net, part, lacking):
     """
     names = list(part.colours)
     if part.stubs:
-        return [stretched(kind, way_to(net, name, None), lacking[name]) for name in names if lacking[name] != 0]
+        return [stretched(kind, way_to(net, name, None), lacking[name]) for name in names]
     first = names[0]
-    found = [stretched(kind, way_to(net, name, (first, part.colours[name])), lacking[name])
-             for name in names[1:] if lacking[name] != 0]
+    found = [stretched(kind, way_to(net, name, (first, part.colours[name])), lacking[name]) for name in names[1:]]
     rest = put_together(kind, [reduced(kind, part.colours[name]) * lacking[name] for name in names])
     if rest != 0:
         # An odd rest can be halved on odd dials alone, once around.

@@ -3,7 +3,7 @@
 import inspect
 import itertools
 
-from pairsums import columns, desks, losing, reading, wrong
+from pairsums import certificates, columns, console, desks, losing, reading, wrong
 from pairsums.errors import (InvalidCells, InvalidLost, InvalidNames, InvalidNumber, InvalidValues, NotATable, NotLost,
                              UnknownName)
 from pairsums.tables import Table
@@ -30,6 +30,10 @@ SIGNATURES = {
     wrong.suspects: ("table", "cells"),
     wrong.righted: ("table", "cells", "name"),
     desks.Desk: ("table", "values"),
+    certificates.certify_cell: ("table", "lost", "cell"),
+    certificates.certify_strength: ("table", "number"),
+    certificates.certify_wrong: ("table", "cells", "name"),
+    console.Console: ("table", "values"),
 }
 P, Q, FIRST, SECOND = ("sum", "p"), ("sum", "q"), ("datum", 0), ("datum", 1)
 
@@ -39,7 +43,9 @@ RIGHT = {"lost": (FIRST, P), "cell": P, "cells": (3, 5, 3, -2), "names": ("far",
 
 
 def shown(value):
-    """What can be compared of a result: a desk equals itself alone."""
+    """What can be compared of a result: a desk and a console equal themselves alone."""
+    if isinstance(value, console.Console):
+        return [value.say("show sum p"), value.say("show datum 1")]
     return value.cells if isinstance(value, desks.Desk) else value
 
 
@@ -69,7 +75,8 @@ class Arguments(Case):
                              shown(call(**{name: arguments[name] for name in parameters[::-1]})))
 
     def test_defined_in_their_files(self):
-        for module, many in [(losing, 9), (columns, 5), (reading, 2), (wrong, 3), (desks, 1)]:
+        for module, many in [(losing, 9), (columns, 5), (reading, 2), (wrong, 3), (desks, 1), (certificates, 3),
+                             (console, 1)]:
             own = [call for call in SIGNATURES if call.__module__ == module.__name__]
             self.assertEqual(len(own), many)
             self.assertTrue(all(getattr(module, call.__name__) is call for call in own))
@@ -172,8 +179,11 @@ class Arguments(Case):
             self.assert_error(InvalidNames, 2, "names", (order[2], order[0], order[2], Anything()))
 
     def test_numbers(self):
-        for number in [*not_integers(), -1, 4, 10 ** 79, -10 ** 79]:
+        for number in [*not_integers(), -1, -10 ** 79]:
             self.assert_error(InvalidNumber, number, "number", number)
+        for number in [4, 10 ** 79]:
+            self.assert_both_ways(InvalidNumber, number, losing.count_back, {"table": side(), "number": number})
+            self.assertEqual(certificates.certify_strength(side(), number)[0], ("weak", str(side()), number))
 
     def test_nothing_is_changed(self):
         lost, cells, names = [FIRST, P], [3, 5, 3, -2], ["far"]

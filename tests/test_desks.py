@@ -163,10 +163,12 @@ class AtFirst(Case):
     def test_a_desk_equals_itself_alone(self):
         desk, other = Desk(side(), (5, -2)), Desk(side(), (5, -2))
         self.assertTrue(desk == desk and not desk != desk)
-        for value in [other, desk.trial(), side(), None, 0, (), (side(), (5, -2))]:
+        for value in [other, desk.trial(), side(), None, 0, (), (side(), (5, -2)), Anything()]:
             self.assertTrue(desk != value and not desk == value)
         trial = desk.trial()
-        self.assertTrue(trial == trial and trial != desk.trial() and trial != desk and trial != None)  # noqa: E711
+        self.assertTrue(trial == trial and not trial != trial)
+        for value in [desk.trial(), desk, None, 0, Anything()]:
+            self.assertTrue(trial != value and not trial == value)
         self.assertTrue(desk and trial and Desk(Table("bits", (("a", ("p",), ()),)), ()))
 
 

@@ -47,6 +47,25 @@ EXAMPLES = r"""
 [(('sum', 'a'), ('sum', 'b'), ('datum', 3)), None, None, (('sum', 'a'), ('datum', 0), ('datum', 2)), (('sum', 'a'), ('datum', 0), ('datum', 2)), (('sum', 'a'), ('datum', 0), ('datum', 2)), (0, 1, 2, 2, 5, 3, 7, 7, 5, 6), 4]
 >>> desk.give(("datum", 0), 1)
 raises NotLost(given=('datum', 0))
+>>> from pairsums.books import Book
+>>> book = Book()
+>>> [book.do_all(("put", "main", five), ("wish", ("strong", "main", 2)), ("wish", ("reads", "main", "ra", 5))), book.names, book.changes]
+[3, ('main',), 3]
+>>> book.do_all(("put", "main", side))
+raises Broken(index=0)
+>>> from pairsums.certificates import certify_cell, certify_strength, certify_wrong
+>>> from pairsums.checker import accepts
+>>> claim, paper = certify_cell(five, three, ("datum", 3))
+>>> [claim[0], paper, accepts(claim, paper), accepts(claim, (0, 1, 0, 1, 0, 0)), certify_strength(five, 2)[1], certify_strength(side, 2)[0][0]]
+['gone', (0, 1, 0, 1, 0, 1), True, False, (), 'weak']
+>>> [certify_wrong(side, (3, 5, 4, -2), "right")[1], certify_wrong(side, (3, 5, 4, -2), "far"), certify_wrong(side, (3, 5, 4, -2), "left")[1], accepts(("back", str(five), three[:1], three[0]), (1, ((("sum", "a"), 1), (("datum", 3), 1), (("datum", 4), 1))))]
+[(3,), None, (4, 6), True]
+>>> from pairsums.console import Console
+>>> console = Console(five, (1, 2, 3, 4, 5, 6))
+>>> [console.say("lose column ra"), console.say("lose datum 2"), console.say("lost"), console.say("mend"), console.say("show sum a"), console.say("put 0 9"), console.say("give datum 0 9")]
+['ok', 'ok', 'sum a, datum 0, datum 2', 'sum a, datum 0, datum 2', '3', 'datum 0, sum c, sum d', 'NotLost']
+>>> console.say("lose sum z")
+raises InvalidLine(given='lose sum z')
 """
 
 INTERFACE = {
@@ -58,15 +77,24 @@ INTERFACE = {
     "reading": ("fewest_reads", "reading"),
     "wrong": ("lacks", "suspects", "righted"),
     "desks": ("Desk",),
+    "books": ("Book",),
+    "checker": ("accepts",),
+    "certificates": ("certify_cell", "certify_strength", "certify_wrong"),
+    "console": ("Console",),
 }
 
 METHODS = {
     "Table": ("cells_of", "column_of", "full", "is_right", "read", "__eq__", "__str__", "__repr__"),
     "Desk": ("put", "lose", "lose_column", "mend", "give", "hope", "undo", "trial", "tried"),
+    "Book": ("__setitem__", "__getitem__", "__contains__", "__len__", "__bool__", "drop", "wish", "lift", "undo",
+             "do_all", "trial", "tried"),
+    "Console": ("say",),
 }
 PROPERTIES = {
     "Table": ("kind", "columns", "names", "sums", "data", "cells"),
     "Desk": ("table", "lost", "cells", "changes"),
+    "Book": ("names", "wishes", "changes"),
+    "Console": (),
 }
 
 

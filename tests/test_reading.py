@@ -150,7 +150,8 @@ class Reading(Case):
 
     def test_columns_without_sums(self):
         for kind in KINDS:
-            table = Table(kind, (("a", (), (("p", "q"),)), ("b", ("p", "q"), (("p", "r"), ("p", "r"))), ("c", ("r",), ())))
+            table = Table(kind, (("a", (), (("p", "q"),)), ("b", ("p", "q"), (("p", "r"), ("p", "r"))),
+                                 ("c", ("r",), ())))
             # The sum p would need two data more.
             self.assert_reading(table, "a", 1)
             self.assertEqual(reading(table, "a"), ((("datum", 0), "q"),))

@@ -100,7 +100,8 @@ class Lacks(Case):
     def test_beyond_the_bounds(self):
         most = 10 ** 32
         self.assertEqual(lacks(side(), (most, 0, -most, 0)), (("p", -most), ("q", most)))
-        self.assertEqual(lacks(side(), (-most, 10 ** 30, most, 10 ** 30)), (("p", 102 * 10 ** 30), ("q", -98 * 10 ** 30)))
+        self.assertEqual(lacks(side(), (-most, 10 ** 30, most, 10 ** 30)),
+                         (("p", 102 * 10 ** 30), ("q", -98 * 10 ** 30)))
 
     def test_by_name(self):
         self.assertEqual(lacks(cells=(3, 5, 4, -2), table=side()), (("q", -1),))
@@ -225,7 +226,8 @@ class Suspects(Case):
 
     def test_a_datum_with_both_sums_with_one_with_none(self):
         for kind in KINDS:
-            table = Table(kind, (("a", ("p", "q"), (("p", "q"),)), ("b", ("r",), (("p", "q"),)), ("c", (), (("p", "r"),))))
+            table = Table(kind, (("a", ("p", "q"), (("p", "q"),)), ("b", ("r",), (("p", "q"),)),
+                                 ("c", (), (("p", "r"),))))
             two = put(kind, 1, 1)
             # p, q, first datum; r, second; third.
             self.assert_suspects(table, (1, 1, 1, 0, 0, 0), ("a", "b", "c"))
@@ -250,7 +252,8 @@ class Suspects(Case):
         self.assertEqual(righted(table, (0, 0, 0, most, -most), "a"), (2 * most, 2 * most, -most, most, -most))
 
     def test_order_is_that_of_the_columns(self):
-        table = Table("bits", (("z", (), (("p", "q"),)), ("m", ("p",), ()), ("a", (), (("p", "q"),)), ("b", ("q",), ())))
+        table = Table("bits", (("z", (), (("p", "q"),)), ("m", ("p",), ()), ("a", (), (("p", "q"),)),
+                               ("b", ("q",), ())))
         self.assert_suspects(table, (1, 1, 1, 1), ("z", "a"))
         self.assert_suspects(table, (1, 1, 1, 0), ("m",))
         self.assert_suspects(table, (1, 0, 1, 0), ("z", "m", "a", "b"))

@@ -282,6 +282,17 @@ class Cells(Case):
             if paper != told:
                 self.assert_verdict(False, ("back", text, (("sum", "a"),), ("sum", "a")), paper)
 
+    def test_a_cell_that_is_left(self):
+        for kind in KINDS:
+            text = str(side(kind))
+            minus = {"bits": 1, "plain": -1}.get(kind) or kind - 1
+            for lost in [(), (P,), (P, SECOND), (SECOND,)]:
+                for cell, factors in [(FIRST, ((FIRST, 1),)), (Q, ((Q, 1),)), (FIRST, ((Q, 1), (SECOND, minus))),
+                                      (FIRST, ((P, 1), (SECOND, minus)))]:
+                    self.assert_verdict(False, ("back", text, lost, cell), (1, factors))
+                    self.assert_verdict(False, ("gone", text, lost, cell), (1, 0))
+            self.assert_verdict(True, ("back", text, (FIRST,), FIRST), (1, ((P, 1), (SECOND, minus))))
+
     def test_signature(self):
         self.assertEqual(list(inspect.signature(accepts).parameters), ["claim", "certificate"])
         claim = ("gone", str(FIVE), THREE, THREE[0])
@@ -413,6 +424,10 @@ class Wrong(Case):
         table = Table(5, (("a", ("p", "q"), (("p", "q"),)),))
         for number in range(-6, 11):
             self.assertIs(accepts(("wrong", str(table), (0, 0, 0), "a"), (number,) * 3), 0 <= number < 5)
+        # Around the dial the sums would fit.
+        for number in (-10, -5, 0, 5, 10, 5 * 10 ** 40):
+            self.assertIs(accepts(("wrong", str(table), (0, 0, 0), "a"), (0, 0, number)), number == 0)
+            self.assertIs(accepts(("wrong", str(table), (0, 0, 0), "a"), (4, 4, number + 4)), number == 0)
 
     def test_columns_without_cells(self):
         table = Table("bits", (("a", (), ()), ("b", ("p",), ())))
